@@ -1,0 +1,1 @@
+"""Whole numbers written by bases and digits that may lie below nought."""
