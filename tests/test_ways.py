@@ -1,169 +1,43 @@
 import itertools
+import os
+import sys
 import unittest
 
-from digitways.errors import NoDigits, NoNote, NoRow, NoWay, WayError
+# The folder of the tests is no package: so the file beside this one is found from wherever the tests are run.
+sys.path.insert(0, os.path.dirname(os.path.abspath(__file__)))
+
+from examples import BINARY, EDGE_WAYS, NUMBERS, WAYS, Assertions, all_ways, is_whole
+from digitways.errors import NoWay
 from digitways.ways import alike, digit, follower, mirrored, ring
 
-BINARY = (2, (0, 1))
 
-WRONG_BASES = {
-    "base 1": (1, (0,)),
-    "base 1, two digits": (1, (0, 1)),
-    "base 0, no digit": (0, ()),
-    "base 0": (0, (0,)),
-    "base -1": (-1, (0,)),
-    "base 13": (13, tuple(range(13))),
-    "base -13": (-13, tuple(range(13))),
-    "base 81, all digits there are": (81, tuple(range(-40, 41))),
-    "base -81, all digits there are": (-81, tuple(range(-40, 41))),
-    "base 10 ** 30": (10 ** 30, (0, 1)),
-    "base -10 ** 30": (-10 ** 30, (0, 1)),
-    "a base of thousands of figures": (10 ** 5000, (0, 1)),
-    "a base of thousands of figures below nought": (-10 ** 5000, (0, 1)),
-}
-
-WRONG_DIGITS = {
-    "no digit": (2, ()),
-    "one left out": (3, (0, 1)),
-    "one left out, base below nought": (-3, (0, -1)),
-    "one of twelve left out": (12, tuple(range(11))),
-    "one too many": (2, (0, 1, 2)),
-    "one too many, base below nought": (-3, (0, 1, -1, 3)),
-    "one too many for 12": (12, tuple(range(13))),
-    "0 twice": (2, (0, 0)),
-    "0 twice, else right": (3, (0, 1, 2, 0)),
-    "another twice": (3, (0, 1, 1)),
-    "another twice, else right": (3, (0, 1, 2, 2)),
-    "another twice, base below nought": (-3, (0, -1, -1)),
-    "two of rest 0": (2, (0, 2)),
-    "two of one rest above nought": (3, (0, 1, 4)),
-    "two of one rest on both sides": (3, (0, 1, -2)),
-    "two of one rest below nought": (-4, (0, -1, -2, -5)),
-    "two of one rest far apart": (-5, (0, -40, 1, 2, 3)),
-    "two of one rest, each in size unlike": (-12, (0, 1, 2, 3, 4, 5, 6, 7, 8, 9, 10, -2)),
-    "a digit 41": (2, (0, 41)),
-    "a digit 41 at the front": (3, (41, 0, 1)),
-    "a digit -41": (2, (0, -41)),
-    "a digit -41, base below nought": (-3, (0, -41, 2)),
-    "a digit far above": (2, (0, 10 ** 30 + 1)),
-    "a digit far below": (-2, (-10 ** 30 - 1, 0)),
-    "a digit of thousands of figures": (2, (0, 10 ** 5000 + 1)),
-    "none 0": (2, (1, 2)),
-    "none 0 but one of rest 0 below nought": (-2, (-2, 1)),
-    "none 0 of three": (3, (1, 2, 3)),
-    "none 0 of twelve": (12, tuple(range(1, 13))),
-}
-
-WRONG_SHAPES = {
-    "nothing": (),
-    "a base alone": (2,),
-    "one behind the digits": (2, (0, 1), 0),
-    "digits ahead of the base": ((0, 1), 2),
-    "digits as a list": (2, [0, 1]),
-    "a list": [2, (0, 1)],
-}
-
-NO_WAYS = {**WRONG_BASES, **WRONG_DIGITS, **WRONG_SHAPES}
-
-EDGE_WAYS = {
-    "base 2": BINARY,
-    "base -2": (-2, (0, 1)),
-    "base 12": (12, tuple(range(12))),
-    "base -12": (-12, tuple(range(12))),
-    "base 12, digits below nought": (12, tuple(range(-11, 1))),
-    "digits 40 and -40": (3, (0, 40, -40)),
-    "digits 40 and -40, base below nought": (-3, (40, -40, 0)),
-    "base 12, digits 40 and -40": (12, (40, 1, 2, 3, 0, 5, 6, 7, -40, 9, 10, 11)),
-    "base -12, digits 40 and -40": (-12, (11, 10, 9, -40, 7, 6, 5, 40, 3, 2, 1, 0)),
-    "base 11, 40": (11, (0, 1, 2, 3, 4, 5, 6, 40, 8, 9, 10)),
-    "base -11, -40": (-11, (0, 1, 2, 3, -40, 5, 6, 7, 8, 9, 10)),
-}
-
-ORDINARY_WAYS = {
-    "ten": (10, tuple(range(10))),
-    "ten from the back": (10, tuple(range(9, -1, -1))),
-    "ten, from -4 to 5": (10, (5, -4, 4, -3, 3, -2, 2, -1, 1, 0)),
-    "ten below nought": (-10, tuple(range(10))),
-    "three, balanced": (3, (-1, 0, 1)),
-    "three, balanced, in another order": (3, (1, -1, 0)),
-    "three below nought": (-3, (2, 0, 1)),
-    "three, far digits": (3, (0, 25, 38)),
-    "two, 1 less nought": (2, (-1, 0)),
-    "two, 39": (2, (39, 0)),
-    "seven below nought, mixed": (-7, (15, -5, 0, 10, -3, 5, 6)),
-}
-
-WAYS = {**EDGE_WAYS, **ORDINARY_WAYS}
-
-NUMBERS = list(range(-130, 131)) + [
-    sign * size + near
-    for sign in (1, -1)
-    for size in (10 ** 3, 2 ** 53, 2 ** 64, 12 ** 20, 10 ** 29, 10 ** 30, 10 ** 33)
-    for near in (-2, -1, 0, 1, 2)
-]
-
-
-def all_ways(base, step=1):
-    """Each way by the base, or every step-th choice of each digit, 0 at the front."""
-    choices = [[d for d in range(-40, 41) if d % abs(base) == rest][::step] for rest in range(1, abs(base))]
-    return [(base, (0,) + digits) for digits in itertools.product(*choices)]
-
-
-def plain_follower(way, number):
-    base, digits = way
-    quotients = [divmod(number - entry, base) for entry in digits]
-    (answer,) = [quotient for quotient, rest in quotients if rest == 0]
-    return answer
-
-
-def is_whole(way):
-    """By walks alone: no follower of a number up to 100 in size lies beyond it, and all larger ones come there."""
-    ending = {0}
-    for number in range(-100, 101):
-        walk = set()
-        while number not in ending:
-            if number in walk:
-                return False
-            walk.add(number)
-            number = plain_follower(way, number)
-        ending |= walk
-    return True
-
-
-class NoWayTest(unittest.TestCase):
-
-    def assert_refused(self, asked):
-        for name, way in NO_WAYS.items():
-            with self.subTest(way=name):
-                with self.assertRaises(NoWay) as caught:
-                    asked(way)
-                self.assertIs(type(caught.exception), NoWay)
+class NoWayTest(Assertions, unittest.TestCase):
 
     def test_digit(self):
-        self.assert_refused(lambda way: digit(way, 5))
-        self.assert_refused(lambda way: digit(way, 0))
+        self.assert_no_way_refused(lambda way: digit(way, 5))
+        self.assert_no_way_refused(lambda way: digit(way, 0))
 
     def test_follower(self):
-        self.assert_refused(lambda way: follower(way, 5))
-        self.assert_refused(lambda way: follower(way, 0))
+        self.assert_no_way_refused(lambda way: follower(way, 5))
+        self.assert_no_way_refused(lambda way: follower(way, 0))
 
     def test_ring(self):
-        self.assert_refused(ring)
+        self.assert_no_way_refused(ring)
 
     def test_mirrored(self):
-        self.assert_refused(mirrored)
+        self.assert_no_way_refused(mirrored)
 
     def test_alike_first_way(self):
-        self.assert_refused(lambda way: alike(way, BINARY))
+        self.assert_no_way_refused(lambda way: alike(way, BINARY))
 
     def test_alike_second_way(self):
-        self.assert_refused(lambda way: alike(BINARY, way))
-        self.assert_refused(lambda way: alike((5, (0, 1, 2, 3, 4)), way))
+        self.assert_no_way_refused(lambda way: alike(BINARY, way))
+        self.assert_no_way_refused(lambda way: alike((5, (0, 1, 2, 3, 4)), way))
 
     def test_alike_both_ways(self):
-        self.assert_refused(lambda way: alike(way, way))
-        self.assert_refused(lambda way: alike(way, (1, (0,))))
-        self.assert_refused(lambda way: alike((1, (0,)), way))
+        self.assert_no_way_refused(lambda way: alike(way, way))
+        self.assert_no_way_refused(lambda way: alike(way, (1, (0,))))
+        self.assert_no_way_refused(lambda way: alike((1, (0,)), way))
 
     def test_alike_refuses_the_first_way_ahead(self):
         def words(asked):
@@ -178,18 +52,6 @@ class NoWayTest(unittest.TestCase):
         self.assertNotEqual(base_words, digit_words)
         self.assertEqual(words(lambda: alike(wrong_base, wrong_digits)), base_words)
         self.assertEqual(words(lambda: alike(wrong_digits, wrong_base)), digit_words)
-
-    def test_taken_by_the_classes_above_and_not_by_a_sister(self):
-        for asked in (lambda: digit((1, (0,)), 0), lambda: ring((2, (0, 2))), lambda: alike(BINARY, (2, (0, 41)))):
-            for taken in (WayError, ValueError):
-                with self.assertRaises(taken):
-                    asked()
-            try:
-                asked()
-            except (NoRow, NoDigits, NoNote):
-                self.fail("taken by a sister class")
-            except WayError as error:
-                self.assertIsInstance(error, NoWay)
 
     def test_the_edges_that_are_ways(self):
         for name, way in EDGE_WAYS.items():
@@ -271,16 +133,7 @@ class DigitAndFollowerTest(unittest.TestCase):
                         self.assertEqual(follower((base, order), number), follower((base, digits), number))
 
 
-class RingTest(unittest.TestCase):
-
-    def assert_ring(self, way, told):
-        self.assertIs(type(told), list)
-        self.assertGreater(len(told), 0)
-        self.assertNotIn(0, told)
-        self.assertEqual(len(set(told)), len(told))
-        for here, after in zip(told, told[1:] + told[:1]):
-            self.assertIs(type(here), int)
-            self.assertEqual(plain_follower(way, here), after)
+class RingTest(Assertions, unittest.TestCase):
 
     def assert_right(self, way):
         told = ring(way)
